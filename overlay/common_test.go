@@ -1,0 +1,100 @@
+package overlay_test
+
+import (
+	"strings"
+	"testing"
+
+	"overlay/overlay"
+)
+
+const (
+	lowest  = -1 << 63
+	highest = 1<<63 - 1
+)
+
+func newStore(t *testing.T, room int) *overlay.Store {
+	t.Helper()
+	s, e := overlay.New(room)
+	if s == nil || e != overlay.OK {
+		t.Fatalf("New(%d) = %v, %d", room, s, e)
+	}
+	return s
+}
+
+func load(t *testing.T, s *overlay.Store, name, file string, want overlay.Errno) {
+	t.Helper()
+	if e := s.Load(name, file); e != want {
+		t.Errorf("Load(%q, %d bytes) = %d, want %d", name, len(file), e, want)
+	}
+}
+
+func makeImage(t *testing.T, s *overlay.Store, name string, clusters int, backing string, want overlay.Errno) {
+	t.Helper()
+	if e := s.Make(name, clusters, backing); e != want {
+		t.Errorf("Make(%q, %d, %q) = %d, want %d", name, clusters, backing, e, want)
+	}
+}
+
+func drop(t *testing.T, s *overlay.Store, name string, want overlay.Errno) {
+	t.Helper()
+	if e := s.Drop(name); e != want {
+		t.Errorf("Drop(%q) = %d, want %d", name, e, want)
+	}
+}
+
+func dump(t *testing.T, s *overlay.Store, name, want string, wantErr overlay.Errno) {
+	t.Helper()
+	if f, e := s.Dump(name); f != want || e != wantErr {
+		t.Errorf("Dump(%q) = %q, %d, want %q, %d", name, f, e, want, wantErr)
+	}
+}
+
+func chain(t *testing.T, s *overlay.Store, name, want, where string, wantErr overlay.Errno) {
+	t.Helper()
+	if c, w, e := s.Chain(name); c != want || w != where || e != wantErr {
+		t.Errorf("Chain(%q) = %q, %q, %d, want %q, %q, %d", name, c, w, e, want, where, wantErr)
+	}
+}
+
+func check(t *testing.T, s *overlay.Store, name, want string, wantErr overlay.Errno) {
+	t.Helper()
+	if c, e := s.Check(name); c != want || e != wantErr {
+		t.Errorf("Check(%q) = %q, %d, want %q, %d", name, c, e, want, wantErr)
+	}
+}
+
+// over is the file of an image of one open cluster over this backing.
+func over(backing string) string {
+	return "OV\x01\x01" + string([]byte{byte(len(backing))}) + backing + "\x00\x00"
+}
+
+// fill loads files without bytes until there are this many more.
+func fill(t *testing.T, s *overlay.Store, many int) {
+	t.Helper()
+	for i := range many {
+		load(t, s, "fill"+string(rune('0'+i)), "", overlay.OK)
+	}
+}
+
+// someNames are names that the tests use and texts that are no names.
+var someNames = []string{
+	"", "a", "b", "c", "d", "abcdefgh", "abcdefghi", "A", "a-", "a,b", " ", "\x00", "\xff", "\u00e9", "fill0", "fill7",
+	strings.Repeat("a", 1001),
+}
+
+// state is everything that the face tells of a store.
+func state(s *overlay.Store) string {
+	var b strings.Builder
+	tell := func(text string, e overlay.Errno) {
+		b.WriteString(text)
+		b.WriteByte(byte('0' + e))
+		b.WriteByte('\n')
+	}
+	for _, name := range someNames {
+		tell(s.Dump(name))
+		tell(s.Check(name))
+		c, w, e := s.Chain(name)
+		tell(c+" "+w, e)
+	}
+	return b.String()
+}

@@ -1,0 +1,160 @@
+package overlay
+
+import (
+	"errors"
+	"strings"
+	"testing"
+	"time"
+	"unsafe"
+)
+
+func TestErrorsTellTheWay(t *testing.T) {
+	s := &Store{room: maxStore}
+	s.files.put("c", "OV\x01\x01\x01b\x00\x00")
+	s.files.put("b", "OV\x01\x01\x01a\x00\x00")
+	s.files.put("a", "OV")
+	_, err := s.openChain("c")
+	if !errors.Is(err, errCorrupt) || errors.Is(err, errMissing) || errors.Is(err, errCycle) {
+		t.Errorf("the fixed error is not errCorrupt alone: %v", err)
+	}
+	if want := "through c: through b: at a: " + errCorrupt.Error(); err.Error() != want {
+		t.Errorf("error %q, want %q", err.Error(), want)
+	}
+	var f *fault
+	if !errors.As(err, &f) || f.where != "a" {
+		t.Errorf("errors.As finds %v, want the fault at a", f)
+	}
+}
+
+func TestByName(t *testing.T) {
+	var k byName[int]
+	for i, name := range []string{"c", "a", "b", "a"} {
+		k.put(name, i)
+	}
+	names := func() string {
+		var out []string
+		for name := range k.all() {
+			out = append(out, name)
+		}
+		return strings.Join(out, ",")
+	}
+	if names() != "c,a,b" || k.count() != 3 {
+		t.Errorf("names %q, count %d", names(), k.count())
+	}
+	if n, ok := k.get("a"); n != 3 || !ok {
+		t.Errorf("get of a: %d, %v", n, ok)
+	}
+	if n, ok := k.get("d"); n != 0 || ok || k.has("d") {
+		t.Errorf("get of d: %d, %v", n, ok)
+	}
+	k.drop("d")
+	k.drop("c")
+	if names() != "a,b" || k.has("c") {
+		t.Errorf("names after drop: %q", names())
+	}
+	for name := range k.all() {
+		if name != "a" {
+			t.Errorf("going on after the break: %q", name)
+		}
+		break
+	}
+}
+
+func TestPlainForm(t *testing.T) {
+	for _, c := range []struct{ file, plain string }{
+		{"OV\x01\x01\x00\x00\x00", "OV\x01\x01\x00\x00\x00"},
+		{"OV\x01\x02\x01b\x02\x01\x0212345678abcdefgh", "OV\x01\x02\x01b\x01\x02\x02abcdefgh12345678"},
+		{"OV\x01\x03\x00\xff\x03\x00\x0312345678abcdefghABCDEFGH", "OV\x01\x03\x00\xff\x01\x00\x01ABCDEFGH"},
+		{"OV\x01\x01\x08abcdefgh\x00\x0112345678", "OV\x01\x01\x08abcdefgh\x00\x00"},
+	} {
+		m, err := parseImage(c.file)
+		if err != nil || m.file() != c.plain {
+			t.Errorf("plain form of %q is %q (%v), want %q", c.file, m.file(), err, c.plain)
+		}
+	}
+}
+
+// While the store is held by somebody no call may get through; each must have ended once it is let go.
+func TestP2CallsWaitForTheMutex(t *testing.T) {
+	s := &Store{room: maxStore}
+	calls := map[string]func(){
+		"Make":  func() { s.Make("a", 1, "") },
+		"Load":  func() { s.Load("b", "x") },
+		"Dump":  func() { s.Dump("a") },
+		"Drop":  func() { s.Drop("a") },
+		"Chain": func() { s.Chain("a") },
+		"Check": func() { s.Check("a") },
+	}
+	ended := make(chan string, len(calls))
+	s.mutex.Lock()
+	for name, call := range calls {
+		go func() {
+			call()
+			ended <- name
+		}()
+	}
+	time.Sleep(50 * time.Millisecond)
+	early := len(ended)
+	for range early {
+		t.Errorf("%s did not wait", <-ended)
+	}
+	s.mutex.Unlock()
+	for range len(calls) - early {
+		<-ended
+	}
+}
+
+// Every way out of a call, with an error or without, lets the store go.
+func TestP2CallsLetTheMutexGo(t *testing.T) {
+	s := &Store{room: 20}
+	free := func(what string) {
+		t.Helper()
+		if !s.mutex.TryLock() {
+			t.Fatalf("%s did not let the store go", what)
+		}
+		s.mutex.Unlock()
+	}
+	for _, name := range []string{"A", "a", "a", "b", "c"} {
+		for _, clusters := range []int{0, 1, 30} {
+			for _, backing := range []string{"", "a", "none"} {
+				s.Make(name, clusters, backing)
+				free("Make")
+			}
+		}
+		for _, file := range []string{"OV", strings.Repeat("x", 21), strings.Repeat("x", 1001)} {
+			s.Load(name, file)
+			free("Load")
+			s.Dump(name)
+			free("Dump")
+			s.Chain(name)
+			free("Chain")
+			s.Check(name)
+			free("Check")
+		}
+		s.Drop(name)
+		free("Drop")
+		s.Drop(name)
+		free("Drop of none")
+	}
+}
+
+// What is handed in is not kept, and no answer is a piece of it.
+func TestTextsAreCopied(t *testing.T) {
+	s := &Store{room: maxStore}
+	name, file := strings.Clone("a"), strings.Clone("OV\x01\x01\x00\x00\x00")
+	apart := func(what, one, other string) {
+		t.Helper()
+		if one != other || unsafe.StringData(one) == unsafe.StringData(other) {
+			t.Errorf("%s: %q is no copy of %q", what, one, other)
+		}
+	}
+	s.Load(name, file)
+	apart("the name that is kept", s.files.rows[0].name, name)
+	dumped, _ := s.Dump(name)
+	apart("Dump", dumped, file)
+	names, _, _ := s.Chain(name)
+	apart("Chain", names, name)
+	s.Load(name, "OV")
+	_, where, _ := s.Chain(name)
+	apart("where", where, name)
+}

@@ -1,0 +1,141 @@
+package overlay_test
+
+import (
+	"strings"
+	"testing"
+
+	"overlay/overlay"
+)
+
+var someNumbers = []int{lowest, lowest + 1, -1, 0, 1, 2, 7, 8, 30, 31, 240, 255, 256, 4000, 4001, highest - 1, highest}
+
+var someFiles = []string{
+	"", "O", "OV", "OV\x01", "OV\x01\xff\xff", "OV\x01\x01\x00\xfe\xff", over(""), over("a"), over("b"), over("abcdefgh"), over("A"),
+	"OV\x01\x02\x00\x02\x01\x0212345678abcdefgh", strings.Repeat("\xff", 1000), strings.Repeat("\xff", 1001), strings.Repeat("x", 5000),
+}
+
+// everyCall calls each call that takes a name, with these arguments.
+func everyCall(s *overlay.Store, name, text string, number, other int) {
+	s.Dump(name)
+	s.Chain(name)
+	s.Check(name)
+	s.Read(name, number, other)
+	s.Write(name, number, text)
+	s.Zero(name, number, other)
+	s.Discard(name, number, other)
+	s.Commit(name)
+	s.Rebase(name, text)
+	s.Flatten(name)
+	s.Compare(name, text)
+}
+
+func TestP1NoCallPanics(t *testing.T) {
+	for _, n := range someNumbers {
+		overlay.New(n)
+	}
+	for _, room := range []int{0, 20, 4000} {
+		s := newStore(t, room)
+		for _, name := range someNames {
+			for _, file := range someFiles {
+				s.Load(name, file)
+				s.Make(name, len(file), file)
+				for _, n := range someNumbers {
+					s.Make(name, n, "a")
+					everyCall(s, name, file, n, -n)
+				}
+				s.Chain("a")
+				s.Make("d", 1, "a")
+			}
+			s.Drop(name)
+		}
+	}
+}
+
+// Each pair of neighbours in the order of a call's errors, and the first against the last.
+func TestP1LoadAnswersTheErrorNamedFirst(t *testing.T) {
+	s := newStore(t, 10)
+	load(t, s, "A", strings.Repeat("x", 1001), overlay.ErrName)
+	load(t, s, "A", strings.Repeat("x", 11), overlay.ErrName)
+	load(t, s, "a", strings.Repeat("x", 1001), overlay.ErrArg)
+	load(t, s, "a", strings.Repeat("x", 11), overlay.ErrFull)
+	fill(t, s, 8)
+	load(t, s, "", "", overlay.ErrName)
+	load(t, s, "a", strings.Repeat("x", 11), overlay.ErrArg)
+	load(t, s, "fill0", strings.Repeat("x", 1001), overlay.ErrArg)
+	load(t, s, "fill0", strings.Repeat("x", 11), overlay.ErrFull)
+}
+
+func TestP1MakeAnswersTheErrorNamedFirst(t *testing.T) {
+	s := newStore(t, 16)
+	load(t, s, "bad", "OV", overlay.OK)
+	makeImage(t, s, "A", 0, "none", overlay.ErrName)
+	makeImage(t, s, "A", 1, "", overlay.ErrName)
+	makeImage(t, s, "bad", 0, "none", overlay.ErrArg)
+	makeImage(t, s, "bad", 31, "", overlay.ErrArg)
+	makeImage(t, s, "bad", 1, "none", overlay.ErrExists)
+	makeImage(t, s, "bad", 1, "bad", overlay.ErrExists)
+	makeImage(t, s, "bad", 30, "", overlay.ErrExists)
+	makeImage(t, s, "a", 30, "none", overlay.ErrNone)
+	makeImage(t, s, "a", 30, "A", overlay.ErrNone)
+	makeImage(t, s, "a", 30, "bad", overlay.ErrCorrupt)
+	makeImage(t, s, "a", 30, "", overlay.ErrFull)
+	load(t, s, "bad", over("none"), overlay.OK)
+	makeImage(t, s, "a", 30, "bad", overlay.ErrMissing)
+	load(t, s, "bad", over("bad"), overlay.OK)
+	makeImage(t, s, "a", 30, "bad", overlay.ErrCycle)
+	fill(t, s, 7)
+	makeImage(t, s, "A", 1, "", overlay.ErrName)
+	makeImage(t, s, "bad", 1, "none", overlay.ErrArg)
+	makeImage(t, s, "a", 30, "none", overlay.ErrArg)
+}
+
+func TestP1NothingHasChangedWithAnError(t *testing.T) {
+	s := newStore(t, 60)
+	makeImage(t, s, "a", 1, "", overlay.OK)
+	makeImage(t, s, "b", 2, "a", overlay.OK)
+	load(t, s, "c", over("none"), overlay.OK)
+	load(t, s, "d", "OV", overlay.OK)
+	before := state(s)
+	same := func(what string, e, want overlay.Errno) {
+		t.Helper()
+		if e != want {
+			t.Errorf("%s = %d, want %d", what, e, want)
+		}
+		if state(s) != before {
+			t.Fatalf("%s: the store has changed", what)
+		}
+	}
+	same("Load of no name", s.Load("A", "x"), overlay.ErrName)
+	same("Load of too much", s.Load("a", strings.Repeat("x", 1001)), overlay.ErrArg)
+	same("Load in place, no room", s.Load("a", strings.Repeat("x", 60)), overlay.ErrFull)
+	same("Load, no room", s.Load("abcdefgh", strings.Repeat("x", 60)), overlay.ErrFull)
+	same("Make of no name", s.Make("A", 1, ""), overlay.ErrName)
+	same("Make of none", s.Make("fill0", 0, ""), overlay.ErrArg)
+	same("Make again", s.Make("a", 2, ""), overlay.ErrExists)
+	same("Make over none", s.Make("fill0", 1, "x"), overlay.ErrNone)
+	same("Make over missing", s.Make("fill0", 1, "c"), overlay.ErrMissing)
+	same("Make over corrupt", s.Make("fill0", 1, "d"), overlay.ErrCorrupt)
+	same("Make, no room", s.Make("fill0", 30, "a"), overlay.ErrFull)
+	same("Drop of none", s.Drop("x"), overlay.ErrNone)
+	fill(t, s, 4)
+	before = state(s)
+	same("a ninth file", s.Load("abcdefgh", ""), overlay.ErrArg)
+	same("a ninth image", s.Make("abcdefgh", 1, ""), overlay.ErrArg)
+}
+
+// What there is counts against the room, not what there was.
+func TestP1RoomIsForWhatIsLeft(t *testing.T) {
+	s := newStore(t, 30)
+	load(t, s, "a", strings.Repeat("x", 30), overlay.OK)
+	load(t, s, "b", "", overlay.OK)
+	load(t, s, "b", "y", overlay.ErrFull)
+	load(t, s, "a", strings.Repeat("y", 30), overlay.OK)
+	load(t, s, "a", strings.Repeat("y", 31), overlay.ErrFull)
+	load(t, s, "a", strings.Repeat("y", 22), overlay.OK)
+	makeImage(t, s, "c", 3, "", overlay.ErrFull)
+	makeImage(t, s, "c", 2, "", overlay.OK)
+	load(t, s, "b", "y", overlay.ErrFull)
+	drop(t, s, "c", overlay.OK)
+	load(t, s, "b", strings.Repeat("z", 9), overlay.ErrFull)
+	load(t, s, "b", strings.Repeat("z", 8), overlay.OK)
+}

@@ -1,0 +1,103 @@
+package overlay_test
+
+import (
+	"strings"
+	"sync"
+	"sync/atomic"
+	"testing"
+
+	"overlay/overlay"
+)
+
+func TestP2StoresAreApart(t *testing.T) {
+	one, two := newStore(t, 20), newStore(t, 30)
+	load(t, one, "a", strings.Repeat("x", 20), overlay.OK)
+	dump(t, two, "a", "", overlay.ErrNone)
+	load(t, two, "a", strings.Repeat("y", 30), overlay.OK)
+	load(t, two, "a", strings.Repeat("y", 31), overlay.ErrFull)
+	load(t, one, "a", strings.Repeat("x", 21), overlay.ErrFull)
+	dump(t, one, "a", strings.Repeat("x", 20), overlay.OK)
+	drop(t, one, "a", overlay.OK)
+	dump(t, two, "a", strings.Repeat("y", 30), overlay.OK)
+	makeImage(t, one, "b", 1, "", overlay.OK)
+	makeImage(t, one, "c", 1, "b", overlay.OK)
+	chain(t, one, "c", "c,b", "", overlay.OK)
+	chain(t, two, "c", "", "", overlay.ErrNone)
+}
+
+// together runs the same work in several goroutines and waits for all.
+func together(many int, work func(number int)) {
+	var wait sync.WaitGroup
+	for i := range many {
+		wait.Go(func() { work(i) })
+	}
+	wait.Wait()
+}
+
+func TestP2OneOfManyMakesTheImage(t *testing.T) {
+	for range 300 {
+		s := newStore(t, 4000)
+		var made, refused atomic.Int32
+		together(8, func(int) {
+			switch s.Make("a", 3, "") {
+			case overlay.OK:
+				made.Add(1)
+			case overlay.ErrExists:
+				refused.Add(1)
+			}
+		})
+		if made.Load() != 1 || refused.Load() != 7 {
+			t.Fatalf("of 8 Make %d made it, %d were told ErrExists", made.Load(), refused.Load())
+		}
+	}
+}
+
+func TestP2LimitsHoldForMany(t *testing.T) {
+	for range 300 {
+		s := newStore(t, 50)
+		var loaded, full atomic.Int32
+		together(8, func(number int) {
+			switch s.Load("f"+string(rune('0'+number)), "0123456789") {
+			case overlay.OK:
+				loaded.Add(1)
+			case overlay.ErrFull:
+				full.Add(1)
+			}
+		})
+		if loaded.Load() != 5 || full.Load() != 3 {
+			t.Fatalf("of 8 files of 10 bytes %d came into a room of 50, %d were told ErrFull", loaded.Load(), full.Load())
+		}
+	}
+}
+
+// Every goroutine works on a name of its own: each answer is what it would be without the others.
+func TestP2EachAsIfAlone(t *testing.T) {
+	s := newStore(t, 4000)
+	makeImage(t, s, "base", 2, "", overlay.OK)
+	together(7, func(number int) {
+		name := "n" + string(rune('0'+number))
+		for range 500 {
+			if e := s.Make(name, 3, "base"); e != overlay.OK {
+				t.Errorf("Make(%q) = %d", name, e)
+			}
+			if c, w, e := s.Chain(name); c != name+",base" || w != "" || e != overlay.OK {
+				t.Errorf("Chain(%q) = %q, %q, %d", name, c, w, e)
+			}
+			if e := s.Load(name, name); e != overlay.OK {
+				t.Errorf("Load(%q) = %d", name, e)
+			}
+			if f, e := s.Dump(name); f != name || e != overlay.OK {
+				t.Errorf("Dump(%q) = %q, %d", name, f, e)
+			}
+			if c, e := s.Check("base"); c != "0,0,2,0" || e != overlay.OK {
+				t.Errorf("Check = %q, %d", c, e)
+			}
+			if e := s.Drop(name); e != overlay.OK {
+				t.Errorf("Drop(%q) = %d", name, e)
+			}
+		}
+	})
+	for i := range 7 {
+		dump(t, s, "n"+string(rune('0'+i)), "", overlay.ErrNone)
+	}
+}
