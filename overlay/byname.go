@@ -58,3 +58,13 @@ func (k *byName[T]) all() iter.Seq2[string, T] {
 		}
 	}
 }
+
+func (k *byName[T]) backward() iter.Seq2[string, T] {
+	return func(yield func(string, T) bool) {
+		for _, r := range slices.Backward(k.rows) {
+			if !yield(r.name, r.thing) {
+				return
+			}
+		}
+	}
+}

@@ -63,6 +63,37 @@ func check(t *testing.T, s *overlay.Store, name, want string, wantErr overlay.Er
 	}
 }
 
+func read(t *testing.T, s *overlay.Store, name string, from, many int, want string, wantErr overlay.Errno) {
+	t.Helper()
+	if f, e := s.Read(name, from, many); f != want || e != wantErr {
+		t.Errorf("Read(%q, %d, %d) = %q, %d, want %q, %d", name, from, many, f, e, want, wantErr)
+	}
+}
+
+func write(t *testing.T, s *overlay.Store, name string, from int, data string, want overlay.Errno) {
+	t.Helper()
+	if e := s.Write(name, from, data); e != want {
+		t.Errorf("Write(%q, %d, %q) = %d, want %d", name, from, data, e, want)
+	}
+}
+
+func zero(t *testing.T, s *overlay.Store, name string, from, many int, want overlay.Errno) {
+	t.Helper()
+	if e := s.Zero(name, from, many); e != want {
+		t.Errorf("Zero(%q, %d, %d) = %d, want %d", name, from, many, e, want)
+	}
+}
+
+func discard(t *testing.T, s *overlay.Store, name string, from, many int, want overlay.Errno) {
+	t.Helper()
+	if e := s.Discard(name, from, many); e != want {
+		t.Errorf("Discard(%q, %d, %d) = %d, want %d", name, from, many, e, want)
+	}
+}
+
+// noughts is a text of so many bytes 0.
+func noughts(many int) string { return strings.Repeat("\x00", many) }
+
 // over is the file of an image of one open cluster over this backing.
 func over(backing string) string {
 	return "OV\x01\x01" + string([]byte{byte(len(backing))}) + backing + "\x00\x00"
@@ -95,6 +126,36 @@ func state(s *overlay.Store) string {
 		tell(s.Check(name))
 		c, w, e := s.Chain(name)
 		tell(c+" "+w, e)
+		tell(s.Read(name, 0, 8))
 	}
 	return b.String()
+}
+
+// unsound are stores in which there is a file a that is no sound image.
+var unsound = []struct {
+	what  string
+	files map[string]string
+	want  overlay.Errno
+}{
+	{"no image", map[string]string{"a": "OV"}, overlay.ErrCorrupt},
+	{"no image, in its last entry", map[string]string{"a": "OV\x01\x02\x00\x01\x02\x0112345678"}, overlay.ErrCorrupt},
+	{"over no image", map[string]string{"a": dataOver("b"), "b": "OV\x01\x01\x00\x01\x00"}, overlay.ErrCorrupt},
+	{"over one over no image", map[string]string{"a": dataOver("b"), "b": over("c"), "c": ""}, overlay.ErrCorrupt},
+	{"over none", map[string]string{"a": dataOver("b")}, overlay.ErrMissing},
+	{"over one over none", map[string]string{"a": dataOver("b"), "b": over("c")}, overlay.ErrMissing},
+	{"over itself", map[string]string{"a": dataOver("a")}, overlay.ErrCycle},
+	{"over one over it", map[string]string{"a": dataOver("b"), "b": over("a")}, overlay.ErrCycle},
+	{"over one over itself", map[string]string{"a": dataOver("b"), "b": over("b")}, overlay.ErrCycle},
+}
+
+func loadAll(t *testing.T, s *overlay.Store, files map[string]string) {
+	t.Helper()
+	for name, file := range files {
+		load(t, s, name, file, overlay.OK)
+	}
+}
+
+// dataOver is the file of an image of one data cluster, and one that is lost, over this backing.
+func dataOver(backing string) string {
+	return "OV\x01\x01" + string([]byte{byte(len(backing))}) + backing + "\x02\x02lostlost12345678"
 }

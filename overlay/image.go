@@ -32,15 +32,18 @@ const (
 	dataKind
 )
 
+// block is the bytes of one cluster.
+type block [clusterBytes]byte
+
 type cluster struct {
 	kind kind
-	data [clusterBytes]byte
+	data block
 }
 
 // image is what a file of the image's form says. Of the lost data clusters only the number is kept, since no image is written with them.
 type image struct {
 	backing  string
-	clusters []cluster
+	clusters run[cluster]
 	lost     int
 }
 
@@ -105,11 +108,11 @@ func parseImage(file string) (image, error) {
 }
 
 // parseClusters answers also how many data clusters the entries name.
-func parseClusters(entries string, data string) ([]cluster, int, error) {
+func parseClusters(entries string, data string) (run[cluster], int, error) {
 	var taken [maxData]bool
 	named := 0
 	many := len(data) / clusterBytes
-	clusters := make([]cluster, len(entries))
+	clusters := make(run[cluster], len(entries))
 	for i := range clusters {
 		switch entry := int(entries[i]); {
 		case entry == openEntry:

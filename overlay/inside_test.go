@@ -2,6 +2,7 @@ package overlay
 
 import (
 	"errors"
+	"strconv"
 	"strings"
 	"testing"
 	"time"
@@ -54,7 +55,45 @@ func TestByName(t *testing.T) {
 	}
 	for name := range k.all() {
 		if name != "a" {
-			t.Errorf("going on after the break: %q", name)
+			t.Errorf("the first is %q", name)
+		}
+		break
+	}
+	for name := range k.backward() {
+		if name != "b" {
+			t.Errorf("the last is %q", name)
+		}
+		break
+	}
+}
+
+func TestAlong(t *testing.T) {
+	pairs := func(upper run[int], lower run[string]) string {
+		out := ""
+		for u, l := range along(upper, lower) {
+			out += strconv.Itoa(u) + l + ";"
+		}
+		return out
+	}
+	for _, c := range []struct {
+		upper run[int]
+		lower run[string]
+		want  string
+	}{
+		{nil, nil, ""},
+		{nil, run[string]{"a"}, ""},
+		{run[int]{1, 2}, nil, "1;2;"},
+		{run[int]{1, 2}, run[string]{"a"}, "1a;2;"},
+		{run[int]{1, 2}, run[string]{"a", "b"}, "1a;2b;"},
+		{run[int]{1, 2}, run[string]{"a", "b", "c"}, "1a;2b;"},
+	} {
+		if got := pairs(c.upper, c.lower); got != c.want {
+			t.Errorf("along(%v, %v) tells %q, want %q", c.upper, c.lower, got, c.want)
+		}
+	}
+	for u := range along(run[int]{1, 2}, run[int]{}) {
+		if u != 1 {
+			t.Errorf("the first is %d", u)
 		}
 		break
 	}
@@ -78,12 +117,16 @@ func TestPlainForm(t *testing.T) {
 func TestP2CallsWaitForTheMutex(t *testing.T) {
 	s := &Store{room: maxStore}
 	calls := map[string]func(){
-		"Make":  func() { s.Make("a", 1, "") },
-		"Load":  func() { s.Load("b", "x") },
-		"Dump":  func() { s.Dump("a") },
-		"Drop":  func() { s.Drop("a") },
-		"Chain": func() { s.Chain("a") },
-		"Check": func() { s.Check("a") },
+		"Make":    func() { s.Make("a", 1, "") },
+		"Load":    func() { s.Load("b", "x") },
+		"Dump":    func() { s.Dump("a") },
+		"Drop":    func() { s.Drop("a") },
+		"Chain":   func() { s.Chain("a") },
+		"Check":   func() { s.Check("a") },
+		"Read":    func() { s.Read("a", 0, 1) },
+		"Write":   func() { s.Write("a", 0, "x") },
+		"Zero":    func() { s.Zero("a", 0, 1) },
+		"Discard": func() { s.Discard("a", 0, 8) },
 	}
 	ended := make(chan string, len(calls))
 	s.mutex.Lock()
@@ -130,6 +173,19 @@ func TestP2CallsLetTheMutexGo(t *testing.T) {
 			free("Chain")
 			s.Check(name)
 			free("Check")
+		}
+		for _, file := range []string{"OV\x01\x02\x00\x00\x00\x00", "OV\x01\x02\x01a\x00\x00\x00", "OV"} {
+			s.Load(name, file)
+			for _, p := range []span{{-1, 0}, {0, 0}, {0, 1}, {0, 8}, {0, 16}, {0, 17}} {
+				s.Read(name, p.from, p.many)
+				free("Read")
+				s.Write(name, p.from, strings.Repeat("x", p.many))
+				free("Write")
+				s.Zero(name, p.from, p.many)
+				free("Zero")
+				s.Discard(name, p.from, p.many)
+				free("Discard")
+			}
 		}
 		s.Drop(name)
 		free("Drop")

@@ -54,7 +54,7 @@ func (s *Store) Make(name string, clusters int, backing string) Errno {
 			return errnoOf(err)
 		}
 	}
-	m := image{backing: backing, clusters: make([]cluster, clusters)}
+	m := image{backing: backing, clusters: make(run[cluster], clusters)}
 	return s.keep(name, m.file())
 }
 
@@ -122,16 +122,57 @@ func (s *Store) Check(name string) (string, Errno) {
 }
 
 // Read tells bytes of a view (P6).
-func (s *Store) Read(name string, from int, many int) (string, Errno) { return "", OK }
+func (s *Store) Read(name string, from int, many int) (string, Errno) {
+	s.mutex.Lock()
+	defer s.mutex.Unlock()
+	p := span{from, many}
+	_, view, e := s.openAt(name, p)
+	if e != OK {
+		return "", e
+	}
+	return string(view[p.from:p.end()]), OK
+}
 
 // Write changes bytes of a view (P6).
-func (s *Store) Write(name string, from int, data string) Errno { return OK }
+func (s *Store) Write(name string, from int, data string) Errno {
+	s.mutex.Lock()
+	defer s.mutex.Unlock()
+	p := span{from, len(data)}
+	m, view, e := s.openAt(name, p)
+	if e != OK || p.many == 0 {
+		return e
+	}
+	copy(view[p.from:], data)
+	m.setData(p, view)
+	return s.keep(name, m.file())
+}
 
 // Zero makes bytes of a view noughts (P7).
-func (s *Store) Zero(name string, from int, many int) Errno { return OK }
+func (s *Store) Zero(name string, from int, many int) Errno {
+	s.mutex.Lock()
+	defer s.mutex.Unlock()
+	p := span{from, many}
+	m, view, e := s.openAt(name, p)
+	if e != OK || p.many == 0 {
+		return e
+	}
+	clear(view[p.from:p.end()])
+	m.setData(p, view)
+	m.setWhole(p, zeroKind)
+	return s.keep(name, m.file())
+}
 
 // Discard gives clusters up (P7).
-func (s *Store) Discard(name string, from int, many int) Errno { return OK }
+func (s *Store) Discard(name string, from int, many int) Errno {
+	s.mutex.Lock()
+	defer s.mutex.Unlock()
+	p := span{from, many}
+	m, _, e := s.openAt(name, p)
+	if e != OK || !m.setWhole(p, m.discarded()) {
+		return e
+	}
+	return s.keep(name, m.file())
+}
 
 // Commit brings an image's clusters down into its backing (P8).
 func (s *Store) Commit(name string) Errno { return OK }
@@ -144,6 +185,20 @@ func (s *Store) Flatten(name string) Errno { return OK }
 
 // Compare tells where two views differ first (P10).
 func (s *Store) Compare(name string, other string) (int, Errno) { return 0, OK }
+
+// openAt answers an image and the bytes of its view, if it is sound and its view has the span.
+func (s *Store) openAt(name string, p span) (image, []byte, Errno) {
+	chain, err := s.openChain(name)
+	if err != nil {
+		return image{}, nil, errnoOf(err)
+	}
+	m, _ := chain.get(name)
+	view := bytesOf(viewOf(chain))
+	if !p.within(len(view)) {
+		return image{}, nil, ErrArg
+	}
+	return m, view, OK
+}
 
 // keep puts a file in, in place of one of this name, if the room is enough for what there is then.
 func (s *Store) keep(name string, file string) Errno {

@@ -45,8 +45,25 @@ func TestP1NoCallPanics(t *testing.T) {
 				}
 				s.Chain("a")
 				s.Make("d", 1, "a")
+				s.Make("b", 30, "a")
+				for _, n := range someNumbers {
+					everyCall(s, "b", "x", n, 1)
+				}
 			}
 			s.Drop(name)
+		}
+	}
+}
+
+// Every pair of numbers, at images that have all kinds of clusters.
+func TestP1NoPairOfNumbersPanics(t *testing.T) {
+	s := newStore(t, 4000)
+	for _, n := range someNumbers {
+		for _, m := range append([]int{n, -n}, someNumbers...) {
+			load(t, s, "a", "OV\x01\x02\x00\x02\x01\x0212345678abcdefgh", overlay.OK)
+			load(t, s, "b", "OV\x01\x03\x01a\x00\xff\x00\x00", overlay.OK)
+			everyCall(s, "a", "xyz", n, m)
+			everyCall(s, "b", "xyz", n, m)
 		}
 	}
 }
@@ -89,6 +106,34 @@ func TestP1MakeAnswersTheErrorNamedFirst(t *testing.T) {
 	makeImage(t, s, "a", 30, "none", overlay.ErrArg)
 }
 
+func TestP1ReadAndWriteAnswerTheErrorNamedFirst(t *testing.T) {
+	s := newStore(t, 40)
+	all := func(from, many int, want overlay.Errno) {
+		t.Helper()
+		read(t, s, "a", from, many, "", want)
+		write(t, s, "a", from, strings.Repeat("x", max(0, many)), want)
+		zero(t, s, "a", from, many, want)
+		discard(t, s, "a", from, many, want)
+	}
+	all(-1, 1, overlay.ErrNone)
+	all(0, 25, overlay.ErrNone)
+	load(t, s, "a", over("none"), overlay.OK)
+	all(-1, 1, overlay.ErrMissing)
+	all(0, 25, overlay.ErrMissing)
+	load(t, s, "a", over("a"), overlay.OK)
+	all(-1, 1, overlay.ErrCycle)
+	all(0, 25, overlay.ErrCycle)
+	load(t, s, "a", "OV", overlay.OK)
+	all(-1, 1, overlay.ErrCorrupt)
+	all(0, 25, overlay.ErrCorrupt)
+	load(t, s, "a", "OV\x01\x03\x00\x00\x00\x00\x00", overlay.OK)
+	load(t, s, "b", strings.Repeat("x", 31), overlay.OK)
+	all(-1, 1, overlay.ErrArg)
+	all(0, 25, overlay.ErrArg)
+	write(t, s, "a", 0, "x", overlay.ErrFull)
+	zero(t, s, "a", 0, 1, overlay.ErrFull)
+}
+
 func TestP1NothingHasChangedWithAnError(t *testing.T) {
 	s := newStore(t, 60)
 	makeImage(t, s, "a", 1, "", overlay.OK)
@@ -117,6 +162,25 @@ func TestP1NothingHasChangedWithAnError(t *testing.T) {
 	same("Make over corrupt", s.Make("fill0", 1, "d"), overlay.ErrCorrupt)
 	same("Make, no room", s.Make("fill0", 30, "a"), overlay.ErrFull)
 	same("Drop of none", s.Drop("x"), overlay.ErrNone)
+	for _, c := range []struct {
+		name       string
+		from, many int
+		want       overlay.Errno
+	}{
+		{"x", 0, 8, overlay.ErrNone}, {"c", 0, 8, overlay.ErrMissing}, {"d", 0, 8, overlay.ErrCorrupt},
+		{"a", -8, 8, overlay.ErrArg}, {"a", 0, 9, overlay.ErrArg}, {"a", highest, 8, overlay.ErrArg},
+	} {
+		_, e := s.Read(c.name, c.from, c.many)
+		same("Read", e, c.want)
+		same("Write", s.Write(c.name, c.from, strings.Repeat("x", c.many)), c.want)
+		same("Zero", s.Zero(c.name, c.from, c.many), c.want)
+		same("Discard", s.Discard(c.name, c.from, c.many), c.want)
+	}
+	load(t, s, "abcdefgh", strings.Repeat("x", 60-7-9-11-2), overlay.OK)
+	before = state(s)
+	same("Write, no room", s.Write("b", 0, "x"), overlay.ErrFull)
+	same("Zero, no room", s.Zero("b", 1, 9), overlay.ErrFull)
+	drop(t, s, "abcdefgh", overlay.OK)
 	fill(t, s, 4)
 	before = state(s)
 	same("a ninth file", s.Load("abcdefgh", ""), overlay.ErrArg)

@@ -101,3 +101,54 @@ func TestP2EachAsIfAlone(t *testing.T) {
 		dump(t, s, "n"+string(rune('0'+i)), "", overlay.ErrNone)
 	}
 }
+
+// All goroutines write into one image, each at a place of its own, in which the others' bytes may stand beside its own: no write may take another's away.
+func TestP2WritesToOneImage(t *testing.T) {
+	s := newStore(t, 4000)
+	makeImage(t, s, "base", 3, "", overlay.OK)
+	makeImage(t, s, "a", 3, "base", overlay.OK)
+	together(8, func(number int) {
+		for round := range 300 {
+			text := strings.Repeat(string(rune('a'+(number+round)%26)), 3)
+			if e := s.Write("a", 3*number, text); e != overlay.OK {
+				t.Errorf("Write = %d", e)
+			}
+			if f, e := s.Read("a", 3*number, 3); f != text || e != overlay.OK {
+				t.Errorf("Read = %q, %d, want %q", f, e, text)
+			}
+			if e := s.Zero("a", 3*number, 3); e != overlay.OK {
+				t.Errorf("Zero = %d", e)
+			}
+			if f, e := s.Read("a", 3*number, 3); f != noughts(3) || e != overlay.OK {
+				t.Errorf("Read = %q, %d, want noughts", f, e)
+			}
+		}
+		s.Write("a", 3*number, "end")
+	})
+	read(t, s, "a", 0, 24, strings.Repeat("end", 8), overlay.OK)
+	read(t, s, "base", 0, 24, noughts(24), overlay.OK)
+}
+
+// Whole clusters are written and discarded in turn: who reads sees one or the other, never a piece of each.
+func TestP2ReadsSeeWholeCalls(t *testing.T) {
+	s := newStore(t, 4000)
+	makeImage(t, s, "base", 4, "", overlay.OK)
+	write(t, s, "base", 0, strings.Repeat("b", 32), overlay.OK)
+	makeImage(t, s, "a", 4, "base", overlay.OK)
+	write(t, s, "a", 0, strings.Repeat("a", 32), overlay.OK)
+	together(6, func(number int) {
+		for range 300 {
+			switch number % 3 {
+			case 0:
+				s.Write("a", 0, strings.Repeat("a", 32))
+			case 1:
+				s.Discard("a", 0, 32)
+			case 2:
+				f, e := s.Read("a", 0, 32)
+				if e != overlay.OK || f != strings.Repeat("a", 32) && f != noughts(32) {
+					t.Errorf("Read = %q, %d", f, e)
+				}
+			}
+		}
+	})
+}
