@@ -49,6 +49,11 @@ func (k *byName[T]) drop(name string) {
 	}
 }
 
+// copied answers one that can be changed, or thrown away, without this one.
+func (k *byName[T]) copied() byName[T] {
+	return byName[T]{slices.Clone(k.rows)}
+}
+
 func (k *byName[T]) all() iter.Seq2[string, T] {
 	return func(yield func(string, T) bool) {
 		for _, r := range k.rows {

@@ -43,6 +43,14 @@ func (s *Store) openChain(name string) (*byName[image], error) {
 	return &chain, nil
 }
 
+// openBacking is openChain for a backing's name: the empty one stands for none, and its chain has no image and shows nothing.
+func (s *Store) openBacking(name string) (*byName[image], error) {
+	if name == "" {
+		return &byName[image]{}, nil
+	}
+	return s.openChain(name)
+}
+
 // openDown puts the image and all below it into the chain. There must be a file of this name. It ends, since no name is opened that the chain has already.
 func (s *Store) openDown(name string, chain *byName[image]) error {
 	file, _ := s.files.get(name)

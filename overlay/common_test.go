@@ -91,8 +91,62 @@ func discard(t *testing.T, s *overlay.Store, name string, from, many int, want o
 	}
 }
 
+func commit(t *testing.T, s *overlay.Store, name string, want overlay.Errno) {
+	t.Helper()
+	if e := s.Commit(name); e != want {
+		t.Errorf("Commit(%q) = %d, want %d", name, e, want)
+	}
+}
+
+func rebase(t *testing.T, s *overlay.Store, name, backing string, want overlay.Errno) {
+	t.Helper()
+	if e := s.Rebase(name, backing); e != want {
+		t.Errorf("Rebase(%q, %q) = %d, want %d", name, backing, e, want)
+	}
+}
+
+func flatten(t *testing.T, s *overlay.Store, name string, want overlay.Errno) {
+	t.Helper()
+	if e := s.Flatten(name); e != want {
+		t.Errorf("Flatten(%q) = %d, want %d", name, e, want)
+	}
+}
+
+func compare(t *testing.T, s *overlay.Store, name, other string, want int, wantErr overlay.Errno) {
+	t.Helper()
+	if n, e := s.Compare(name, other); n != want || e != wantErr {
+		t.Errorf("Compare(%q, %q) = %d, %d, want %d, %d", name, other, n, e, want, wantErr)
+	}
+}
+
 // noughts is a text of so many bytes 0.
 func noughts(many int) string { return strings.Repeat("\x00", many) }
+
+// picture is the file of an image in its plain form: of its clusters a letter each (o open, z zero, d data), and what the data ones have of these bytes.
+func picture(backing, kinds, bytes string) string {
+	entries, data := "", ""
+	for i, k := range kinds {
+		switch k {
+		case 'o':
+			entries += "\x00"
+		case 'z':
+			entries += "\xff"
+		case 'd':
+			data += bytes[8*i : 8*i+8]
+			entries += string(rune(len(data) / 8))
+		}
+	}
+	return "OV\x01" + string(rune(len(kinds))) + string(rune(len(backing))) + backing + entries + string(rune(len(data)/8)) + data
+}
+
+// shown is the view of an image of these kinds and bytes over a view below.
+func shown(kinds, bytes, below string) string {
+	view := ""
+	for i, k := range kinds {
+		view += map[rune]string{'o': below + noughts(240), 'z': noughts(240), 'd': bytes}[k][8*i : 8*i+8]
+	}
+	return view
+}
 
 // over is the file of an image of one open cluster over this backing.
 func over(backing string) string {

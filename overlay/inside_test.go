@@ -2,6 +2,7 @@ package overlay
 
 import (
 	"errors"
+	"slices"
 	"strconv"
 	"strings"
 	"testing"
@@ -47,6 +48,13 @@ func TestByName(t *testing.T) {
 	}
 	if n, ok := k.get("d"); n != 0 || ok || k.has("d") {
 		t.Errorf("get of d: %d, %v", n, ok)
+	}
+	other := k.copied()
+	other.put("a", 7)
+	other.put("d", 8)
+	other.drop("c")
+	if n, _ := k.get("a"); n != 3 || names() != "c,a,b" {
+		t.Errorf("after changes to a copy: names %q, a is %d", names(), n)
 	}
 	k.drop("d")
 	k.drop("c")
@@ -99,6 +107,33 @@ func TestAlong(t *testing.T) {
 	}
 }
 
+func TestUnlike(t *testing.T) {
+	for _, c := range []struct {
+		one, other run[byte]
+		places     []int
+		first      int
+	}{
+		{nil, nil, nil, -1},
+		{nil, run[byte]{0, 0}, nil, -1},
+		{nil, run[byte]{0, 1}, nil, 1},
+		{run[byte]{0, 1, 2}, nil, []int{1, 2}, 1},
+		{run[byte]{1, 2, 0}, run[byte]{1}, []int{1}, 1},
+		{run[byte]{1, 2, 3}, run[byte]{0, 2, 4}, []int{0, 2}, 0},
+		{run[byte]{1, 2}, run[byte]{1, 2, 0, 5}, nil, 3},
+		{run[byte]{1, 2}, run[byte]{1, 2}, nil, -1},
+	} {
+		if got := slices.Collect(unlike(c.one, c.other)); !slices.Equal(got, c.places) {
+			t.Errorf("unlike(%v, %v) tells %v, want %v", c.one, c.other, got, c.places)
+		}
+		if got := firstUnlike(c.one, c.other); got != c.first {
+			t.Errorf("firstUnlike(%v, %v) = %d, want %d", c.one, c.other, got, c.first)
+		}
+		if got := firstUnlike(c.other, c.one); got != c.first {
+			t.Errorf("firstUnlike(%v, %v) = %d, want %d", c.other, c.one, got, c.first)
+		}
+	}
+}
+
 func TestPlainForm(t *testing.T) {
 	for _, c := range []struct{ file, plain string }{
 		{"OV\x01\x01\x00\x00\x00", "OV\x01\x01\x00\x00\x00"},
@@ -127,6 +162,10 @@ func TestP2CallsWaitForTheMutex(t *testing.T) {
 		"Write":   func() { s.Write("a", 0, "x") },
 		"Zero":    func() { s.Zero("a", 0, 1) },
 		"Discard": func() { s.Discard("a", 0, 8) },
+		"Commit":  func() { s.Commit("a") },
+		"Rebase":  func() { s.Rebase("a", "b") },
+		"Flatten": func() { s.Flatten("a") },
+		"Compare": func() { s.Compare("a", "b") },
 	}
 	ended := make(chan string, len(calls))
 	s.mutex.Lock()
@@ -185,6 +224,16 @@ func TestP2CallsLetTheMutexGo(t *testing.T) {
 				free("Zero")
 				s.Discard(name, p.from, p.many)
 				free("Discard")
+			}
+			for _, other := range []string{"", "a", "b", "none"} {
+				s.Commit(name)
+				free("Commit")
+				s.Compare(name, other)
+				free("Compare")
+				s.Rebase(name, other)
+				free("Rebase")
+				s.Flatten(name)
+				free("Flatten")
 			}
 		}
 		s.Drop(name)

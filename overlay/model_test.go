@@ -1,7 +1,10 @@
 package overlay_test
 
 import (
+	"maps"
 	"math/rand/v2"
+	"strconv"
+	"strings"
 	"testing"
 
 	"overlay/overlay"
@@ -23,20 +26,10 @@ type modelImage struct {
 func (m *modelImage) size() int { return 8 * len(m.kinds) }
 
 func (m *modelImage) file() string {
-	entries, data := "", ""
-	for i, k := range m.kinds {
-		switch k {
-		case 'o':
-			entries += "\x00"
-		case 'z':
-			entries += "\xff"
-		case 'd':
-			data += string(m.own[8*i : 8*i+8])
-			entries += string(rune(len(data) / 8))
-		}
-	}
-	data += m.lost
-	return "OV\x01" + string(rune(len(m.kinds))) + string(rune(len(m.backing))) + m.backing + entries + string(rune(len(data)/8)) + data
+	plain := picture(m.backing, m.kinds, string(m.own))
+	at := 5 + len(m.backing) + len(m.kinds)
+	many := int(plain[at]) + len(m.lost)/8
+	return plain[:at] + string(rune(many)) + plain[at+1:] + m.lost
 }
 
 // at is one byte of a view.
@@ -73,10 +66,15 @@ func (w *model) total() int {
 
 // put has the clusters become these letters and their bytes those of the view, unless the room is too small.
 func (w *model) put(name string, kinds []byte, view []byte) overlay.Errno {
-	before := w.images[name]
-	w.images[name] = &modelImage{before.backing, string(kinds), view, ""}
+	return w.putAll(map[string]*modelImage{name: {w.images[name].backing, string(kinds), view, ""}})
+}
+
+// putAll has all these images be there, or none, if the room is too small.
+func (w *model) putAll(changed map[string]*modelImage) overlay.Errno {
+	before := maps.Clone(w.images)
+	maps.Copy(w.images, changed)
 	if w.total() > w.room {
-		w.images[name] = before
+		w.images = before
 		return overlay.ErrFull
 	}
 	return overlay.OK
@@ -161,6 +159,75 @@ func (w *model) discard(name string, from, many int) overlay.Errno {
 	return w.put(name, kinds, m.own)
 }
 
+func (w *model) commit(name string) overlay.Errno {
+	m := w.images[name]
+	if m == nil {
+		return overlay.ErrNone
+	}
+	if m.backing == "" {
+		return overlay.ErrBelow
+	}
+	below := w.images[m.backing]
+	kinds, own := []byte(below.kinds), []byte(string(below.own))
+	for len(kinds) < len(m.kinds) {
+		letter := byte('o')
+		if below.backing != "" {
+			letter = 'z'
+		}
+		kinds, own = append(kinds, letter), append(own, noughts(8)...)
+	}
+	for i := range len(m.kinds) {
+		if m.kinds[i] != 'o' {
+			kinds[i] = m.kinds[i]
+			copy(own[8*i:8*i+8], m.own[8*i:])
+		}
+	}
+	return w.putAll(map[string]*modelImage{
+		m.backing: {below.backing, string(kinds), own, ""},
+		name:      {m.backing, strings.Repeat("o", len(m.kinds)), m.own, ""},
+	})
+}
+
+func (w *model) rebase(name, backing string) overlay.Errno {
+	m := w.images[name]
+	if m == nil || backing != "" && w.images[backing] == nil {
+		return overlay.ErrNone
+	}
+	for below := backing; below != ""; below = w.images[below].backing {
+		if below == name {
+			return overlay.ErrBelow
+		}
+	}
+	kinds, view := []byte(m.kinds), w.view(name)
+	for i := range kinds {
+		same, empty := true, true
+		for b := 8 * i; b < 8*i+8; b++ {
+			same = same && view[b] == w.at(backing, b)
+			empty = empty && view[b] == 0
+		}
+		switch {
+		case kinds[i] != 'o' || same:
+		case empty:
+			kinds[i] = 'z'
+		default:
+			kinds[i] = 'd'
+		}
+	}
+	return w.putAll(map[string]*modelImage{name: {backing, string(kinds), view, ""}})
+}
+
+func (w *model) compare(name, other string) (int, overlay.Errno) {
+	if w.images[name] == nil || w.images[other] == nil {
+		return 0, overlay.ErrNone
+	}
+	for i := range 240 {
+		if w.at(name, i) != w.at(other, i) {
+			return i, overlay.OK
+		}
+	}
+	return -1, overlay.OK
+}
+
 var modelNames = []string{"a", "b", "cc", "d", "eeeeeeee"}
 
 // randomModel has up to five images, each over one of those ahead of it or over none, some with lost clusters.
@@ -207,7 +274,12 @@ func (w *model) lay(t *testing.T) *overlay.Store {
 // agree asks for all files, and for a piece of each view.
 func (w *model) agree(t *testing.T, s *overlay.Store, random *rand.Rand) {
 	t.Helper()
-	for name, m := range w.images {
+	for _, name := range modelNames {
+		m := w.images[name]
+		if m == nil {
+			dump(t, s, name, "", overlay.ErrNone)
+			continue
+		}
 		dump(t, s, name, m.file(), overlay.OK)
 		view := string(w.view(name))
 		read(t, s, name, 0, len(view), view, overlay.OK)
@@ -243,6 +315,79 @@ func TestP6P7AgainstTheDocument(t *testing.T) {
 		}
 		if t.Failed() {
 			return
+		}
+	}
+}
+
+// fewBlocks has all data clusters be one of three, noughts among them, so that clusters often read the same.
+func fewBlocks(random *rand.Rand, w *model) {
+	for _, name := range modelNames {
+		if m := w.images[name]; m != nil {
+			for i := range len(m.kinds) {
+				copy(m.own[8*i:], strings.Repeat("\x00ab"[random.IntN(3):][:1], 8))
+			}
+		}
+	}
+}
+
+// toolStep does one call of the tools, or a change between them, in the store and in the model, and tells how it ended.
+func (w *model) toolStep(t *testing.T, s *overlay.Store, random *rand.Rand) (string, overlay.Errno) {
+	t.Helper()
+	name := modelNames[random.IntN(len(modelNames))]
+	backing := append(modelNames, "")[random.IntN(len(modelNames)+1)]
+	place := 8 * random.IntN(5)
+	switch random.IntN(6) {
+	case 0:
+		e := w.commit(name)
+		commit(t, s, name, e)
+		return "Commit", e
+	case 1, 2:
+		e := w.rebase(name, backing)
+		rebase(t, s, name, backing, e)
+		return "Rebase", e
+	case 3:
+		e := w.rebase(name, "")
+		flatten(t, s, name, e)
+		return "Flatten", e
+	case 4:
+		e := w.write(name, place, "bbbbbbbb")
+		write(t, s, name, place, "bbbbbbbb", e)
+		return "Write", e
+	default:
+		e := w.zero(name, place, 8)
+		zero(t, s, name, place, 8, e)
+		return "Zero", e
+	}
+}
+
+// A random walk of the tools goes as the document says it, in every file, every view and every comparison.
+func TestP8P9P10AgainstTheDocument(t *testing.T) {
+	random := rand.New(rand.NewPCG(8, 10))
+	ends := map[string]int{}
+	for range 4000 {
+		w := randomModel(random)
+		if random.IntN(4) > 0 {
+			fewBlocks(random, w)
+		}
+		if w.room < 4000 {
+			w.room = w.total() + random.IntN(4)
+		}
+		s := w.lay(t)
+		for range 8 {
+			what, e := w.toolStep(t, s, random)
+			ends[what+strconv.Itoa(int(e))]++
+			w.agree(t, s, random)
+			name, other := modelNames[random.IntN(len(modelNames))], modelNames[random.IntN(len(modelNames))]
+			n, e := w.compare(name, other)
+			compare(t, s, name, other, n, e)
+		}
+		if t.Failed() {
+			return
+		}
+	}
+	for _, end := range []string{"Commit0", "Commit4", "Commit8", "Commit9", "Rebase0", "Rebase4", "Rebase8", "Rebase9", "Flatten0", "Flatten4", "Flatten9"} {
+		if ends[end] < 20 {
+			t.Errorf("the walk came to %s only %d times", end, ends[end])
 		}
 	}
 }

@@ -49,13 +49,11 @@ func (s *Store) Make(name string, clusters int, backing string) Errno {
 	case s.files.has(name):
 		return ErrExists
 	}
-	if backing != "" {
-		if _, err := s.openChain(backing); err != nil {
-			return errnoOf(err)
-		}
+	if _, err := s.openBacking(backing); err != nil {
+		return errnoOf(err)
 	}
 	m := image{backing: backing, clusters: make(run[cluster], clusters)}
-	return s.keep(name, m.file())
+	return s.keep(row[string]{name, m.file()})
 }
 
 // Load puts a file into the store (P3).
@@ -70,7 +68,7 @@ func (s *Store) Load(name string, file string) Errno {
 	case s.files.count() >= maxFiles && !s.files.has(name):
 		return ErrArg
 	}
-	return s.keep(name, strings.Clone(file))
+	return s.keep(row[string]{name, strings.Clone(file)})
 }
 
 // Dump tells a file's bytes (P3).
@@ -144,7 +142,7 @@ func (s *Store) Write(name string, from int, data string) Errno {
 	}
 	copy(view[p.from:], data)
 	m.setData(p, view)
-	return s.keep(name, m.file())
+	return s.keep(row[string]{name, m.file()})
 }
 
 // Zero makes bytes of a view noughts (P7).
@@ -159,7 +157,7 @@ func (s *Store) Zero(name string, from int, many int) Errno {
 	clear(view[p.from:p.end()])
 	m.setData(p, view)
 	m.setWhole(p, zeroKind)
-	return s.keep(name, m.file())
+	return s.keep(row[string]{name, m.file()})
 }
 
 // Discard gives clusters up (P7).
@@ -168,23 +166,80 @@ func (s *Store) Discard(name string, from int, many int) Errno {
 	defer s.mutex.Unlock()
 	p := span{from, many}
 	m, _, e := s.openAt(name, p)
-	if e != OK || !m.setWhole(p, m.discarded()) {
+	if e != OK || !m.setWhole(p, m.blank()) {
 		return e
 	}
-	return s.keep(name, m.file())
+	return s.keep(row[string]{name, m.file()})
 }
 
 // Commit brings an image's clusters down into its backing (P8).
-func (s *Store) Commit(name string) Errno { return OK }
+func (s *Store) Commit(name string) Errno {
+	s.mutex.Lock()
+	defer s.mutex.Unlock()
+	chain, err := s.openChain(name)
+	if err != nil {
+		return errnoOf(err)
+	}
+	m, _ := chain.get(name)
+	if m.backing == "" {
+		return ErrBelow
+	}
+	below, _ := chain.get(m.backing)
+	below.take(m.clusters)
+	m.openAll()
+	return s.keep(row[string]{m.backing, below.file()}, row[string]{name, m.file()})
+}
 
 // Rebase lays an image over another backing (P9).
-func (s *Store) Rebase(name string, backing string) Errno { return OK }
+func (s *Store) Rebase(name string, backing string) Errno {
+	s.mutex.Lock()
+	defer s.mutex.Unlock()
+	return s.rebase(name, backing)
+}
 
 // Flatten lays an image over none (P9).
-func (s *Store) Flatten(name string) Errno { return OK }
+func (s *Store) Flatten(name string) Errno {
+	s.mutex.Lock()
+	defer s.mutex.Unlock()
+	return s.rebase(name, "")
+}
 
 // Compare tells where two views differ first (P10).
-func (s *Store) Compare(name string, other string) (int, Errno) { return 0, OK }
+func (s *Store) Compare(name string, other string) (int, Errno) {
+	s.mutex.Lock()
+	defer s.mutex.Unlock()
+	// A file that there is not goes ahead of all that is wrong with one that there is.
+	if !s.files.has(name) || !s.files.has(other) {
+		return 0, ErrNone
+	}
+	chain, err := s.openChain(name)
+	if err != nil {
+		return 0, errnoOf(err)
+	}
+	otherChain, err := s.openChain(other)
+	if err != nil {
+		return 0, errnoOf(err)
+	}
+	return firstUnlike(bytesOf(viewOf(chain)), bytesOf(viewOf(otherChain))), OK
+}
+
+func (s *Store) rebase(name string, backing string) Errno {
+	chain, err := s.openChain(name)
+	if err != nil {
+		return errnoOf(err)
+	}
+	below, err := s.openBacking(backing)
+	if err != nil {
+		return errnoOf(err)
+	}
+	if below.has(name) {
+		return ErrBelow
+	}
+	m, _ := chain.get(name)
+	m.pin(viewOf(chain), viewOf(below))
+	m.backing = backing
+	return s.keep(row[string]{name, m.file()})
+}
 
 // openAt answers an image and the bytes of its view, if it is sound and its view has the span.
 func (s *Store) openAt(name string, p span) (image, []byte, Errno) {
@@ -200,17 +255,19 @@ func (s *Store) openAt(name string, p span) (image, []byte, Errno) {
 	return m, view, OK
 }
 
-// keep puts a file in, in place of one of this name, if the room is enough for what there is then.
-func (s *Store) keep(name string, file string) Errno {
-	total := len(file)
-	for other, f := range s.files.all() {
-		if other != name {
-			total += len(f)
-		}
+// keep puts files in, each in place of one of its name, if the room is enough for what there is then; else none of them.
+func (s *Store) keep(changed ...row[string]) Errno {
+	after := s.files.copied()
+	for _, r := range changed {
+		after.put(r.name, r.thing)
+	}
+	total := 0
+	for _, file := range after.all() {
+		total += len(file)
 	}
 	if total > s.room {
 		return ErrFull
 	}
-	s.files.put(name, file)
+	s.files = after
 	return OK
 }

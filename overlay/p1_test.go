@@ -134,6 +134,44 @@ func TestP1ReadAndWriteAnswerTheErrorNamedFirst(t *testing.T) {
 	zero(t, s, "a", 0, 1, overlay.ErrFull)
 }
 
+func TestP1ToolsAnswerTheErrorNamedFirst(t *testing.T) {
+	s := newStore(t, 60)
+	load(t, s, "bad", "OV", overlay.OK)
+	load(t, s, "gone", over("none"), overlay.OK)
+	load(t, s, "round", over("round"), overlay.OK)
+	for _, backing := range []string{"", "none", "bad"} {
+		rebase(t, s, "none", backing, overlay.ErrNone)
+	}
+	for name, own := range map[string]overlay.Errno{"bad": overlay.ErrCorrupt, "gone": overlay.ErrMissing, "round": overlay.ErrCycle} {
+		commit(t, s, name, own)
+		flatten(t, s, name, own)
+		for _, backing := range []string{"", "none", "bad", "gone", "round", name} {
+			rebase(t, s, name, backing, own)
+		}
+		compare(t, s, name, "none", 0, overlay.ErrNone)
+		compare(t, s, "none", name, 0, overlay.ErrNone)
+		compare(t, s, name, "bad", 0, own)
+		compare(t, s, name, "gone", 0, own)
+		compare(t, s, name, "round", 0, own)
+	}
+	drop(t, s, "round", overlay.OK)
+	// From here on the room is full, so that each that answers otherwise goes ahead of ErrFull.
+	load(t, s, "a", over(""), overlay.OK)
+	load(t, s, "b", "OV\x01\x03\x01a\x00\x00\x00\x00", overlay.OK)
+	load(t, s, "fill", strings.Repeat("x", 60-2-11-7-10), overlay.OK)
+	commit(t, s, "b", overlay.ErrFull)
+	commit(t, s, "a", overlay.ErrBelow)
+	rebase(t, s, "a", "none", overlay.ErrNone)
+	rebase(t, s, "a", "bad", overlay.ErrCorrupt)
+	rebase(t, s, "a", "gone", overlay.ErrMissing)
+	rebase(t, s, "a", "b", overlay.ErrBelow)
+	rebase(t, s, "a", "a", overlay.ErrBelow)
+	drop(t, s, "b", overlay.OK)
+	load(t, s, "c", "OV\x01\x04\x00\x00\x00\x00\x00\x00", overlay.OK)
+	rebase(t, s, "a", "c", overlay.ErrFull)
+	rebase(t, s, "c", "a", overlay.ErrFull)
+}
+
 func TestP1NothingHasChangedWithAnError(t *testing.T) {
 	s := newStore(t, 60)
 	makeImage(t, s, "a", 1, "", overlay.OK)
@@ -176,10 +214,28 @@ func TestP1NothingHasChangedWithAnError(t *testing.T) {
 		same("Zero", s.Zero(c.name, c.from, c.many), c.want)
 		same("Discard", s.Discard(c.name, c.from, c.many), c.want)
 	}
+	for name, want := range map[string]overlay.Errno{"x": overlay.ErrNone, "c": overlay.ErrMissing, "d": overlay.ErrCorrupt} {
+		same("Commit", s.Commit(name), want)
+		same("Flatten", s.Flatten(name), want)
+		same("Rebase", s.Rebase(name, "a"), want)
+		same("Rebase to it", s.Rebase("a", name), want)
+		_, e := s.Compare(name, "a")
+		same("Compare", e, want)
+	}
+	same("Commit of one without a backing", s.Commit("a"), overlay.ErrBelow)
+	same("Rebase to one over it", s.Rebase("a", "b"), overlay.ErrBelow)
+	same("Rebase to itself", s.Rebase("b", "b"), overlay.ErrBelow)
 	load(t, s, "abcdefgh", strings.Repeat("x", 60-7-9-11-2), overlay.OK)
 	before = state(s)
 	same("Write, no room", s.Write("b", 0, "x"), overlay.ErrFull)
 	same("Zero, no room", s.Zero("b", 1, 9), overlay.ErrFull)
+	same("Commit, no room", s.Commit("b"), overlay.ErrFull)
+	load(t, s, "a", "OV\x01\x01\x00\x01\x0112345678", overlay.ErrFull)
+	load(t, s, "abcdefgh", strings.Repeat("x", 60-15-9-11-2), overlay.OK)
+	load(t, s, "a", "OV\x01\x01\x00\x01\x0112345678", overlay.OK)
+	before = state(s)
+	same("Flatten, no room", s.Flatten("b"), overlay.ErrFull)
+	same("Rebase, no room", s.Rebase("b", ""), overlay.ErrFull)
 	drop(t, s, "abcdefgh", overlay.OK)
 	fill(t, s, 4)
 	before = state(s)

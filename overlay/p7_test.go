@@ -20,23 +20,6 @@ func TestP7Examples(t *testing.T) {
 	dump(t, s, "a", "OV\x01\x02\x00\x01\x00\x01\x00\x00\x00xyz\x00\x00", overlay.OK)
 }
 
-// image3 is the file of an image of three clusters, a letter each: o open, z zero, d data with these bytes.
-func image3(backing, kinds, view string) string {
-	entries, data := "", ""
-	for i, k := range kinds {
-		switch k {
-		case 'o':
-			entries += "\x00"
-		case 'z':
-			entries += "\xff"
-		case 'd':
-			data += view[8*i : 8*i+8]
-			entries += string(rune(len(data) / 8))
-		}
-	}
-	return "OV\x01\x03" + string(rune(len(backing))) + backing + entries + string(rune(len(data)/8)) + data
-}
-
 // eachRange calls try with every range of 24 bytes, and with which of the three clusters lie in it as a whole, and of which a part does.
 func eachRange(try func(from, many int, whole, part [3]bool)) {
 	for from := range 25 {
@@ -71,15 +54,6 @@ func everyKinds() []string {
 
 const ownBytes, bytesBelow = "0123456789abcdefghijklmn", "ABCDEFGHIJKLMNOPQRSTUVWX"
 
-// viewBefore is what an image of these kinds, with ownBytes, shows over what is below.
-func viewBefore(kinds, below string) string {
-	view := ""
-	for i, k := range kinds {
-		view += map[rune]string{'o': below, 'z': noughts(24), 'd': ownBytes}[k][8*i : 8*i+8]
-	}
-	return view
-}
-
 // becomes is kinds with what each of the clusters became for which there is a letter.
 func becomes(kinds string, changes map[rune][3]bool) string {
 	out := []rune(kinds)
@@ -101,17 +75,17 @@ func TestP7ZeroOfEveryRange(t *testing.T) {
 		}
 		for _, kinds := range everyKinds() {
 			s := newStore(t, 4000)
-			load(t, s, "a", image3("", "ddd", bytesBelow), overlay.OK)
-			before := viewBefore(kinds, below)
+			load(t, s, "a", picture("", "ddd", bytesBelow), overlay.OK)
+			before := shown(kinds, ownBytes, below)
 			eachRange(func(from, many int, whole, part [3]bool) {
-				load(t, s, "b", image3(backing, kinds, ownBytes), overlay.OK)
+				load(t, s, "b", picture(backing, kinds, ownBytes), overlay.OK)
 				zero(t, s, "b", from, many, overlay.OK)
 				view := before[:from] + noughts(many) + before[from+many:]
 				read(t, s, "b", 0, 24, view, overlay.OK)
 				after := becomes(kinds, map[rune][3]bool{'z': whole, 'd': part})
-				dump(t, s, "b", image3(backing, after, view), overlay.OK)
+				dump(t, s, "b", picture(backing, after, view), overlay.OK)
 			})
-			dump(t, s, "a", image3("", "ddd", bytesBelow), overlay.OK)
+			dump(t, s, "a", picture("", "ddd", bytesBelow), overlay.OK)
 		}
 	}
 }
@@ -120,14 +94,14 @@ func TestP7DiscardOfEveryRange(t *testing.T) {
 	for backing, letter := range map[string]rune{"": 'o', "a": 'z'} {
 		for _, kinds := range everyKinds() {
 			s := newStore(t, 4000)
-			load(t, s, "a", image3("", "ddd", bytesBelow), overlay.OK)
+			load(t, s, "a", picture("", "ddd", bytesBelow), overlay.OK)
 			eachRange(func(from, many int, whole, part [3]bool) {
-				load(t, s, "b", image3(backing, kinds, ownBytes), overlay.OK)
+				load(t, s, "b", picture(backing, kinds, ownBytes), overlay.OK)
 				discard(t, s, "b", from, many, overlay.OK)
 				after := becomes(kinds, map[rune][3]bool{letter: whole})
-				dump(t, s, "b", image3(backing, after, ownBytes), overlay.OK)
+				dump(t, s, "b", picture(backing, after, ownBytes), overlay.OK)
 			})
-			dump(t, s, "a", image3("", "ddd", bytesBelow), overlay.OK)
+			dump(t, s, "a", picture("", "ddd", bytesBelow), overlay.OK)
 		}
 	}
 }
@@ -135,21 +109,21 @@ func TestP7DiscardOfEveryRange(t *testing.T) {
 // A discarded cluster reads as noughts, whatever lies below, and also where the backing ends ahead of it.
 func TestP7DiscardReadsAsNoughts(t *testing.T) {
 	s := newStore(t, 4000)
-	load(t, s, "a", image3("", "ddd", bytesBelow), overlay.OK)
+	load(t, s, "a", picture("", "ddd", bytesBelow), overlay.OK)
 	makeImage(t, s, "b", 5, "a", overlay.OK)
 	write(t, s, "b", 0, strings.Repeat("x", 40), overlay.OK)
 	discard(t, s, "b", 4, 36, overlay.OK)
 	dump(t, s, "b", "OV\x01\x05\x01a\x01\xff\xff\xff\xff\x01xxxxxxxx", overlay.OK)
 	read(t, s, "b", 0, 40, "xxxxxxxx"+noughts(32), overlay.OK)
 	discard(t, s, "a", 8, 8, overlay.OK)
-	dump(t, s, "a", image3("", "dod", bytesBelow), overlay.OK)
+	dump(t, s, "a", picture("", "dod", bytesBelow), overlay.OK)
 	read(t, s, "a", 0, 24, "ABCDEFGH"+noughts(8)+"QRSTUVWX", overlay.OK)
 }
 
 // Part of what the clusters below show is kept when the other part is made noughts.
 func TestP7ZeroKeepsWhatShinesThrough(t *testing.T) {
 	s := newStore(t, 4000)
-	load(t, s, "a", image3("", "ddd", bytesBelow), overlay.OK)
+	load(t, s, "a", picture("", "ddd", bytesBelow), overlay.OK)
 	makeImage(t, s, "b", 2, "a", overlay.OK)
 	makeImage(t, s, "c", 4, "b", overlay.OK)
 	zero(t, s, "c", 3, 26, overlay.OK)
@@ -218,19 +192,19 @@ func TestP7ZeroNeedsRoom(t *testing.T) {
 	makeImage(t, s, "a", 3, "", overlay.OK)
 	load(t, s, "b", "123456", overlay.OK)
 	zero(t, s, "a", 7, 2, overlay.ErrFull)
-	dump(t, s, "a", image3("", "ooo", ""), overlay.OK)
+	dump(t, s, "a", picture("", "ooo", ""), overlay.OK)
 	dump(t, s, "b", "123456", overlay.OK)
 	zero(t, s, "a", 24, 1, overlay.ErrArg)
 	zero(t, s, "a", 7, 9, overlay.OK)
-	dump(t, s, "a", image3("", "dzo", noughts(24)), overlay.OK)
+	dump(t, s, "a", picture("", "dzo", noughts(24)), overlay.OK)
 	zero(t, s, "a", 8, 9, overlay.ErrFull)
 	zero(t, s, "a", 0, 17, overlay.OK)
-	dump(t, s, "a", image3("", "zzd", noughts(24)), overlay.OK)
+	dump(t, s, "a", picture("", "zzd", noughts(24)), overlay.OK)
 	load(t, s, "b", "12345", overlay.OK)
 	zero(t, s, "a", 7, 9, overlay.OK)
-	dump(t, s, "a", image3("", "dzd", noughts(24)), overlay.OK)
+	dump(t, s, "a", picture("", "dzd", noughts(24)), overlay.OK)
 	zero(t, s, "a", 15, 1, overlay.ErrFull)
-	dump(t, s, "a", image3("", "dzd", noughts(24)), overlay.OK)
+	dump(t, s, "a", picture("", "dzd", noughts(24)), overlay.OK)
 }
 
 // Discard takes no room, so it is done in a store that is full to the last byte.
@@ -238,7 +212,7 @@ func TestP7DiscardInAFullStore(t *testing.T) {
 	for _, backing := range []string{"", "b"} {
 		s := newStore(t, 60)
 		load(t, s, "b", over(""), overlay.OK)
-		file := image3(backing, "ddd", ownBytes)
+		file := picture(backing, "ddd", ownBytes)
 		load(t, s, "a", file, overlay.OK)
 		load(t, s, "c", strings.Repeat("x", 60-7-len(file)), overlay.OK)
 		load(t, s, "d", "x", overlay.ErrFull)

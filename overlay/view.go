@@ -47,8 +47,8 @@ func (m image) viewOver(below run[block]) run[block] {
 	return view
 }
 
-func bytesOf(view run[block]) []byte {
-	var all []byte
+func bytesOf(view run[block]) run[byte] {
+	var all run[byte]
 	for _, b := range view {
 		all = append(all, b[:]...)
 	}
@@ -77,8 +77,8 @@ func (m *image) setWhole(p span, k kind) bool {
 	return some
 }
 
-// discarded is what a discarded cluster becomes: over a backing it may not be open, or old bytes would be read again.
-func (m image) discarded() kind {
+// blank is what a cluster becomes that is to read as noughts and to take no room: over a backing it may not be open, or old bytes would be read again.
+func (m image) blank() kind {
 	if m.backing == "" {
 		return openKind
 	}
